@@ -1,0 +1,1 @@
+"""Coupled wagons that move one place at a time."""
