@@ -49,6 +49,31 @@ def check_wagon(yard, wagon):
         raise InvalidWagon(wagon)
 
 
+def neighbours_of(yard):
+    """Return, for each wagon of a valid yard, the spans to the wagons coupled with it.
+
+    Each is a dict in the order of the couplings.
+    """
+    neighbours = [{} for _ in yard[0]]
+    for i, j, least, greatest in yard[1]:
+        neighbours[i][j] = (least, greatest)
+        neighbours[j][i] = (-greatest, -least)
+    return neighbours
+
+
+def spans_from(yard, wagon):
+    """Map each wagon connected with a wagon of a valid yard to the span there from it."""
+    neighbours = neighbours_of(yard)
+    following = _next_towards(yard, wagon)
+    spans = {wagon: (0, 0)}
+    # The dict has the nearer wagons first, so the span to the one before is known.
+    for other, nearer in following.items():
+        if other != wagon:
+            least, greatest = neighbours[nearer][other]
+            spans[other] = (spans[nearer][0] + least, spans[nearer][1] + greatest)
+    return spans
+
+
 def are_connected(yard, wagon, other):
     """Return whether two wagons are connected."""
     _check_two_wagons(yard, wagon, other)
@@ -69,14 +94,11 @@ def path(yard, wagon, other):
 
 def span(yard, wagon, other):
     """Return the span from one wagon to another one."""
-    way = path(yard, wagon, other)
-    bounds = _bounds_of_neighbours(yard)
-    least = 0
-    greatest = 0
-    for pair in zip(way, way[1:]):
-        least += bounds[pair][0]
-        greatest += bounds[pair][1]
-    return (least, greatest)
+    _check_two_wagons(yard, wagon, other)
+    spans = spans_from(yard, wagon)
+    if other not in spans:
+        raise NotConnected((wagon, other))
+    return spans[other]
 
 
 def groups(yard):
@@ -162,9 +184,7 @@ def _check_two_wagons(yard, wagon, other):
 
 def _next_towards(yard, target):
     """Map each wagon connected with the target to the next one on its path there."""
-    neighbours = [[] for _ in yard[0]]
-    for i, j in _bounds_of_neighbours(yard):
-        neighbours[i].append(j)
+    neighbours = neighbours_of(yard)
     following = {target: None}
     waiting = [target]
     while waiting:
@@ -174,12 +194,3 @@ def _next_towards(yard, target):
                 following[wagon] = reached
                 waiting.append(wagon)
     return following
-
-
-def _bounds_of_neighbours(yard):
-    """Map each coupled pair of wagons, in both orders, to the span between them."""
-    bounds = {}
-    for i, j, least, greatest in yard[1]:
-        bounds[(i, j)] = (least, greatest)
-        bounds[(j, i)] = (-greatest, -least)
-    return bounds

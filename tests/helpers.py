@@ -3,6 +3,8 @@
 import itertools
 import unittest
 
+from coupledyard.errors import InvalidArrangement, InvalidYard
+
 Y = (((0, 9), (0, 9), (0, 9)), ((0, 1, 1, 2), (1, 2, 1, 2)))
 
 # Three groups: 0-2-4 and 1-3 with couplings in both directions along a path, and 5 alone.
@@ -10,6 +12,18 @@ FOREST = (
     ((0, 50),) * 6,
     ((0, 2, 1, 3), (1, 3, -7, 5), (2, 4, -2, 10)),
 )
+
+# Small yards of many forms, of which every arrangement can be looked at.
+SMALL_YARDS = [
+    Y,
+    (((-2, 2),), ()),
+    (((4, 4),), ()),
+    (((0, 3), (-2, 2)), ()),
+    (((0, 4), (0, 4), (0, 4)), ((0, 1, -1, 1), (0, 2, -2, 0))),
+    (((0, 3), (0, 3), (0, 3), (0, 3)), ((0, 3, -1, 1), (1, 3, -1, 0), (2, 3, 0, 1))),
+    (((0, 5), (2, 4), (1, 6)), ((0, 2, -1, 2), (1, 2, -2, 3))),
+    (((0, 2), (0, 2), (0, 4)), ((0, 2, 1, 3),)),
+]
 
 
 def nested(depth):
@@ -24,6 +38,43 @@ OTHER_KINDS = [
     None, True, False, "", "wagon", b"", b"yard", [], [0], {}, {0: 1}, set(), {1}, frozenset(),
     object(), len, int, 1j, range(3), iter([]), Ellipsis, nested(20), [[[0]]], {"walls": ()},
 ]
+
+# Values that are not yards, with the part and the index of the error.
+NO_YARDS = [
+    (value, "form", None) for value in OTHER_KINDS
+] + [
+    (list(Y), "form", None),
+    ((Y[0],), "form", None),
+    (([], ()), "walls", None),
+    (((), ()), "walls", None),
+    ((((0, 9),) * 41, ()), "walls", None),
+    ((((0, 9), (9, 0)), ()), "walls", 1),
+    ((((0, True),), None), "walls", 0),
+    ((Y[0], []), "couplings", None),
+    ((Y[0], (None,)), "couplings", 0),
+    ((Y[0], ((0, 1, 2, 2),)), "couplings", 0),
+    ((Y[0], ((0, 1, 1, 2), (0, 2, 1, 2), (1, 2, 1, 2))), "couplings", 2),
+]
+
+# Values that are not arrangements of Y, with the part and the index of the error.
+NO_ARRANGEMENTS = [
+    (value, "form", None) for value in OTHER_KINDS
+] + [
+    ([0, 1, 2], "form", None),
+    ((0, 1), "form", None),
+    ((0, 1, 2, 3), "form", None),
+    ((None, 1, 2), "places", 0),
+    ((0, True, 2), "places", 1),
+    ((0, 1, [2]), "places", 2),
+    ((8, 9, 10), "places", 2),
+    ((0, 0, 0), "couplings", 0),
+    ((0, 1, 4), "couplings", 1),
+]
+
+
+def first_of(generator):
+    """Return a function that requests the first result of a generator function."""
+    return lambda *args, **keywords: next(generator(*args, **keywords), None)
 
 
 def all_arrangements(yard):
@@ -44,3 +95,15 @@ class YardTestCase(unittest.TestCase):
         # True equals 1, so the texts are compared, too.
         self.assertEqual(repr(vars(caught.exception)), repr(vars(expected)))
         self.assertEqual(vars(caught.exception), vars(expected))
+
+    def assert_yard_errors(self, function, others):
+        """Assert the errors of a yard, with other arguments that are wrong, too."""
+        for value, part, index in NO_YARDS:
+            with self.subTest(yard=str(value)[:60]):
+                self.assert_error(InvalidYard(part, index), function, value, *others)
+
+    def assert_arrangement_errors(self, function, before, others):
+        """Assert the errors of an arrangement of Y behind the arguments before it."""
+        for value, part, index in NO_ARRANGEMENTS:
+            with self.subTest(arrangement=str(value)[:60]):
+                self.assert_error(InvalidArrangement(part, index), function, *before, value, *others)

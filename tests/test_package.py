@@ -7,7 +7,7 @@ import pathlib
 import re
 import unittest
 
-from coupledyard import arrangements, yards
+from coupledyard import arrangements, pins, rounds, steps, yards
 
 PACKAGE = pathlib.Path(__file__).resolve().parent.parent / "coupledyard"
 
@@ -29,6 +29,31 @@ SIGNATURES = {
         "distance": "(yard, start, goal)",
         "stretch": "(yard, start, goal)",
         "shifted": "(yard, arrangement, by)",
+    },
+    steps: {
+        "possible_steps": "(yard, arrangement)",
+        "is_possible": "(yard, arrangement, step)",
+        "reason": "(yard, arrangement, step)",
+        "after": "(yard, arrangement, schedule)",
+        "states_along": "(yard, arrangement, schedule)",
+        "steps_to": "(yard, start, goal)",
+        "schedule_to": "(yard, start, goal)",
+        "is_shortest": "(yard, arrangement, schedule)",
+    },
+    rounds: {
+        "straight_rounds": "(yard, start, goal)",
+        "straight_states": "(yard, start, goal)",
+        "after_rounds": "(yard, arrangement, rounds)",
+        "state_after": "(yard, start, goal, count)",
+    },
+    pins: {
+        "validate_pins": "(yard, pins)",
+        "forced": "(yard, pins, wagon)",
+        "is_conflict": "(yard, pins, value)",
+        "conflict_of": "(yard, pins)",
+        "least_completion": "(yard, pins)",
+        "greatest_completion": "(yard, pins)",
+        "is_completion": "(yard, pins, value)",
     },
 }
 
