@@ -38,7 +38,7 @@ def reason(yard, arrangement, step):
     while not _can_step(yard, neighbours, arrangement, wagon, sign):
         if _has_no_room(yard, arrangement, wagon, sign):
             return (tuple(chain), "wall")
-        wagon = _holder(neighbours, arrangement, wagon, sign)
+        wagon = holder(neighbours, arrangement, wagon, sign)
         chain.append(wagon)
     if len(chain) == 1:
         return None
@@ -47,10 +47,12 @@ def reason(yard, arrangement, step):
 
 def after(yard, arrangement, schedule):
     """Return the arrangement after the steps of a schedule."""
-    last = arrangement
-    for places in states_along(yard, arrangement, schedule):
-        last = places
-    return last
+    validate_arrangement(yard, arrangement)
+    _check_schedule(yard, schedule)
+    places, index = walk(yard, arrangement, schedule)
+    if index is not None:
+        raise Blocked(index)
+    return places
 
 
 def states_along(yard, arrangement, schedule):
@@ -96,6 +98,29 @@ def check_step(yard, value):
         raise InvalidStep(value)
 
 
+def walk(yard, start, steps):
+    """Return the arrangement after the steps and the index of the first impossible one.
+
+    If all are possible, the index is None. Otherwise the arrangement is the one before it.
+    """
+    neighbours = neighbours_of(yard)
+    places = list(start)
+    for index, (wagon, sign) in enumerate(steps):
+        if not _can_step(yard, neighbours, places, wagon, sign):
+            return (tuple(places), index)
+        places[wagon] += sign
+    return (tuple(places), None)
+
+
+def holder(neighbours, places, wagon, sign):
+    """Return the other wagon of the first coupling that holds a wagon, or None."""
+    place = places[wagon] + sign
+    for other, (least, greatest) in neighbours[wagon].items():
+        if not least <= places[other] - place <= greatest:
+            return other
+    return None
+
+
 def _is_step(yard, value):
     if not is_tuple_of(value, 2):
         return False
@@ -116,21 +141,12 @@ def _check_schedule(yard, value):
 def _can_step(yard, neighbours, places, wagon, sign):
     if _has_no_room(yard, places, wagon, sign):
         return False
-    return _holder(neighbours, places, wagon, sign) is None
+    return holder(neighbours, places, wagon, sign) is None
 
 
 def _has_no_room(yard, places, wagon, sign):
     low, high = yard[0][wagon]
     return places[wagon] == (high if sign > 0 else low)
-
-
-def _holder(neighbours, places, wagon, sign):
-    """Return the other wagon of the first coupling that holds a wagon, or None."""
-    place = places[wagon] + sign
-    for other, (least, greatest) in neighbours[wagon].items():
-        if not least <= places[other] - place <= greatest:
-            return other
-    return None
 
 
 def _steps_one_way(yard, start, goal, sign):
@@ -151,4 +167,4 @@ def _steps_one_way(yard, start, goal, sign):
 
 def _is_ready(neighbours, places, goal, wagon, sign):
     # The goal is within the walls, so a wagon on its way there is not at its wall.
-    return places[wagon] != goal[wagon] and _holder(neighbours, places, wagon, sign) is None
+    return places[wagon] != goal[wagon] and holder(neighbours, places, wagon, sign) is None

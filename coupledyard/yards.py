@@ -7,9 +7,14 @@ MOST_PLACE = 10 ** 9
 MOST_DIFFERENCE = 10 ** 10
 
 
+def is_integer(value):
+    """Return whether a value of any kind is an integer."""
+    return isinstance(value, int) and not isinstance(value, bool)
+
+
 def is_integer_from(value, low, high):
     """Return whether a value of any kind is an integer from low to high."""
-    return isinstance(value, int) and not isinstance(value, bool) and low <= value <= high
+    return is_integer(value) and low <= value <= high
 
 
 def is_tuple_of(value, count):
@@ -61,12 +66,29 @@ def neighbours_of(yard):
     return neighbours
 
 
+def next_towards(yard, target):
+    """Map each wagon connected with the target to the next one on its path there.
+
+    The target itself has None. The dict has the nearer wagons first.
+    """
+    neighbours = neighbours_of(yard)
+    following = {target: None}
+    waiting = [target]
+    while waiting:
+        reached = waiting.pop()
+        for wagon in neighbours[reached]:
+            if wagon not in following:
+                following[wagon] = reached
+                waiting.append(wagon)
+    return following
+
+
 def spans_from(yard, wagon):
     """Map each wagon connected with a wagon of a valid yard to the span there from it."""
     neighbours = neighbours_of(yard)
-    following = _next_towards(yard, wagon)
+    following = next_towards(yard, wagon)
     spans = {wagon: (0, 0)}
-    # The dict has the nearer wagons first, so the span to the one before is known.
+    # The nearer wagons come first, so the span to the one before is known.
     for other, nearer in following.items():
         if other != wagon:
             least, greatest = neighbours[nearer][other]
@@ -77,13 +99,13 @@ def spans_from(yard, wagon):
 def are_connected(yard, wagon, other):
     """Return whether two wagons are connected."""
     _check_two_wagons(yard, wagon, other)
-    return wagon in _next_towards(yard, other)
+    return wagon in next_towards(yard, other)
 
 
 def path(yard, wagon, other):
     """Return the wagons on the path from one wagon to another one."""
     _check_two_wagons(yard, wagon, other)
-    following = _next_towards(yard, other)
+    following = next_towards(yard, other)
     if wagon not in following:
         raise NotConnected((wagon, other))
     way = [wagon]
@@ -106,7 +128,7 @@ def groups(yard):
     validate_yard(yard)
     found = []
     for wagon in range(len(yard[0])):
-        group = tuple(sorted(_next_towards(yard, wagon)))
+        group = tuple(sorted(next_towards(yard, wagon)))
         # Every wagon leads to its group; it is taken once, from its smallest one.
         if group[0] == wagon:
             found.append(group)
@@ -180,17 +202,3 @@ def _check_two_wagons(yard, wagon, other):
     validate_yard(yard)
     check_wagon(yard, wagon)
     check_wagon(yard, other)
-
-
-def _next_towards(yard, target):
-    """Map each wagon connected with the target to the next one on its path there."""
-    neighbours = neighbours_of(yard)
-    following = {target: None}
-    waiting = [target]
-    while waiting:
-        reached = waiting.pop()
-        for wagon in neighbours[reached]:
-            if wagon not in following:
-                following[wagon] = reached
-                waiting.append(wagon)
-    return following

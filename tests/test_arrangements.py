@@ -8,10 +8,8 @@ from coupledyard.arrangements import (
     distance, is_arrangement, maximum, minimum, shifted, stretch, validate_arrangement,
 )
 from coupledyard.errors import InvalidArrangement, InvalidYard
-from tests.helpers import FOREST, OTHER_KINDS, Y, YardTestCase, all_arrangements
+from tests.helpers import BIG, FOREST, MOST, OTHER_KINDS, Y, YardTestCase, all_arrangements
 
-BIG = 10 ** 999
-MOST = 10 ** 9
 WIDE = (((-MOST, MOST), (-MOST, MOST)), ((0, 1, -10 ** 10, 10 ** 10),))
 FREE = (((0, 9), (-3, 3)), ())
 NO_YARD = (((0, 9), (9, 0)), ())

@@ -7,7 +7,7 @@ import pathlib
 import re
 import unittest
 
-from coupledyard import arrangements, pins, rounds, steps, yards
+from coupledyard import arrangements, drags, nearest, pins, precedence, rounds, steps, yards
 
 PACKAGE = pathlib.Path(__file__).resolve().parent.parent / "coupledyard"
 
@@ -54,6 +54,26 @@ SIGNATURES = {
         "least_completion": "(yard, pins)",
         "greatest_completion": "(yard, pins)",
         "is_completion": "(yard, pins, value)",
+    },
+    drags: {
+        "dragged": "(yard, arrangement, wagon, place)",
+        "dragged_all": "(yard, arrangement, *drags)",
+        "pushed": "(yard, arrangement, step)",
+        "drag_distance": "(yard, arrangement, wagon, place)",
+    },
+    nearest: {
+        "cost": "(yard, arrangement, targets, *, weights=None)",
+        "nearest": "(yard, targets, *, weights=None, pins=())",
+        "forces": "(yard, targets, *, weights=None, pins=())",
+        "check_forces": "(yard, arrangement, targets, forces, *, weights=None, pins=())",
+    },
+    precedence: {
+        "events": "(yard, start, goal)",
+        "predecessors": "(yard, start, goal)",
+        "is_order": "(yard, start, goal, value)",
+        "ends": "(yard, start, goal, *durations)",
+        "finish": "(yard, start, goal, *durations)",
+        "critical_chain": "(yard, start, goal, *durations)",
     },
 }
 

@@ -11,34 +11,11 @@ from coupledyard.pins import (
 )
 from coupledyard.yards import are_connected, span
 from tests.helpers import (
-    FOREST, NO_ARRANGEMENTS, OTHER_KINDS, SMALL_YARDS, Y, YardTestCase, all_arrangements,
+    BIG, EMPTY_YARDS, FOREST, MOST, NO_ARRANGEMENTS, NO_PINS, OTHER_KINDS, SMALL_YARDS, Y,
+    YardTestCase, all_arrangements, completions,
 )
 
-BIG = 10 ** 999
-MOST = 10 ** 9
-
-# Yards that have no arrangement even without pins.
-EMPTY_YARDS = [
-    (((0, 3), (0, 3)), ((0, 1, 4, 9),)),
-    (((5, 9), (0, 3), (0, 9)), ((0, 1, 0, 1), (1, 2, -9, 9))),
-    (((0, 2), (0, 9), (0, 2)), ((0, 1, 2, 3), (1, 2, 1, 2))),
-]
-
-# Values that are not pins of Y, one item of the tuple.
-NO_PINS = OTHER_KINDS + [
-    [0, 1], (0,), (0, 1, 2), "01", (True, 1), (0, True), (0, None), (None, 0), ("0", 0), (0, "0"),
-    (3, 0), (-1, 0), (BIG, 0), (0, BIG), (0, -BIG), (0, MOST + 1), (0, -MOST - 1), (0, [1]), ([0], 1),
-    ((0, 1),), {0: 1, 1: 2},
-]
 PLAIN_FUNCTIONS = (validate_pins, conflict_of, least_completion, greatest_completion)
-
-
-def completions(yard, pins):
-    """All completions, straight from 7.1."""
-    return [
-        places for places in all_arrangements(yard)
-        if all(places[wagon] == place for wagon, place in pins)
-    ]
 
 
 def all_pins(yard, places):

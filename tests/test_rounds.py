@@ -9,11 +9,9 @@ from coupledyard.arrangements import stretch
 from coupledyard.errors import Blocked, InvalidArrangement, InvalidRounds, InvalidYard
 from coupledyard.rounds import after_rounds, state_after, straight_rounds, straight_states
 from tests.helpers import (
-    OTHER_KINDS, SMALL_YARDS, Y, YardTestCase, all_arrangements, first_of,
+    BIG, MOST, OTHER_KINDS, SMALL_YARDS, Y, YardTestCase, all_arrangements, first_of,
 )
 
-BIG = 10 ** 999
-MOST = 10 ** 9
 FAR = (((-MOST, MOST),) * 3, ((0, 1, 1, 2), (1, 2, -MOST, MOST)))
 FAR_START = (-MOST, 1 - MOST, MOST // 5 - MOST)
 FAR_GOAL = (MOST - 2, MOST - 1, MOST // 10)

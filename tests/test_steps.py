@@ -15,32 +15,9 @@ from coupledyard.steps import (
     states_along, steps_to,
 )
 from tests.helpers import (
-    NO_ARRANGEMENTS, NO_YARDS, OTHER_KINDS, SMALL_YARDS, Y, YardTestCase, all_arrangements,
-    first_of,
+    BIG, CHAIN, MOST, NO_ARRANGEMENTS, NO_STEPS, NO_YARDS, OTHER_KINDS, SMALL_YARDS, STAR, Y,
+    YardTestCase, all_arrangements, all_steps, first_of, moved,
 )
-
-BIG = 10 ** 999
-MOST = 10 ** 9
-
-# Values that are not steps of Y.
-NO_STEPS = OTHER_KINDS + [
-    [0, 1], (0,), (0, 1, 1), "01", (0, 0), (0, 2), (0, -2), (0, True), (True, 1), (False, 1),
-    (0, None), (None, 1), (0, "1"), ("0", 1), (3, 1), (-1, 1), (BIG, 1), (0, BIG), (0, -BIG),
-    ([0], 1), (0, [1]), ((0,), 1), (0, (1,)), ((0, 1),), {0: 1, 1: 1},
-]
-
-# One wagon that 39 others hold, and a train of 40 wagons.
-STAR = (((0, 100),) * 40, tuple((0, j, 0, 5) for j in range(1, 40)))
-CHAIN = (((0, 5000),) * 40, tuple((i, i + 1, 1, 2) for i in range(39)))
-
-
-def moved(places, step):
-    wagon, sign = step
-    return places[:wagon] + (places[wagon] + sign,) + places[wagon + 1:]
-
-
-def all_steps(yard):
-    return [(wagon, sign) for wagon in range(len(yard[0])) for sign in (-1, 1)]
 
 
 def plain_reason(yard, found, places, step):

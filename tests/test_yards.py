@@ -9,9 +9,8 @@ from coupledyard.errors import InvalidWagon, InvalidYard, NotConnected
 from coupledyard.yards import (
     are_connected, groups, is_yard, make_yard, path, span, validate_yard,
 )
-from tests.helpers import FOREST, OTHER_KINDS, Y, YardTestCase, all_arrangements
+from tests.helpers import BIG, FOREST, OTHER_KINDS, Y, YardTestCase, all_arrangements
 
-BIG = 10 ** 999
 TWO_WALLS = ((0, 9), (0, 9))
 CHAIN_OF_40 = tuple((i, i + 1, 1, 2) for i in range(39))
 
