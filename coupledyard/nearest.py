@@ -28,7 +28,7 @@ def nearest(yard, targets, *, weights=None, pins=()):
     validate_yard(yard)
     _check_targets(yard, targets)
     valid_weights = _valid_weights(yard, weights)
-    check_pins(yard, pins)
+    # This judges the pins themselves, too.
     check_no_conflict(yard, pins)
     return _least_nearest(yard, _turns_of_wagons(yard, targets, valid_weights, pins))
 

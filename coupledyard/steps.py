@@ -112,6 +112,11 @@ def walk(yard, start, steps):
     return (tuple(places), None)
 
 
+def stepped(places, wagon, sign):
+    """Return the places after a step, possible or not."""
+    return places[:wagon] + (places[wagon] + sign,) + places[wagon + 1:]
+
+
 def holder(neighbours, places, wagon, sign):
     """Return the other wagon of the first coupling that holds a wagon, or None."""
     place = places[wagon] + sign

@@ -7,7 +7,9 @@ import pathlib
 import re
 import unittest
 
-from coupledyard import arrangements, drags, nearest, pins, precedence, rounds, steps, yards
+from coupledyard import (
+    arrangements, counting, drags, links, nearest, pins, precedence, rounds, steps, texts, yards,
+)
 
 PACKAGE = pathlib.Path(__file__).resolve().parent.parent / "coupledyard"
 
@@ -74,6 +76,20 @@ SIGNATURES = {
         "ends": "(yard, start, goal, *durations)",
         "finish": "(yard, start, goal, *durations)",
         "critical_chain": "(yard, start, goal, *durations)",
+    },
+    counting: {
+        "count_arrangements": "(yard, *, pins=())",
+        "arrangements": "(yard, *, pins=())",
+        "arrangement_at": "(yard, number)",
+        "number_of": "(yard, arrangement)",
+        "count_schedules": "(yard, start, goal)",
+    },
+    links: {
+        "yard_of": "(*links, count, low=0, high=1000)",
+    },
+    texts: {
+        "yard_text": "(yard)",
+        "parse_yard": "(text)",
     },
 }
 
